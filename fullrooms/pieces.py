@@ -1,0 +1,62 @@
+"""What is amiss between a stand and a wish, and the pieces that hang together by it."""
+
+from fullrooms.houses import places
+
+
+def amiss(stand, wish):
+    """For each room and kind how many there are less how many are wished."""
+    return tuple([
+        tuple([many - wished for many, wished in zip(row, wished_row)])
+        for row, wished_row in zip(stand, wish)
+    ])
+
+
+def too_many(stand, wish):
+    """How many things are too many where they are, all together."""
+    return sum([max(0, odd) for row in amiss(stand, wish) for odd in row])
+
+
+def pieces(stand, wish):
+    """All pieces, by their first rooms."""
+    odds = amiss(stand, wish)
+    tied = [room for room, row in enumerate(odds) if any([odd != 0 for odd in row])]
+    around = [(room, piece_around(odds, room)) for room in tied]
+    # Each room of a piece leads to the same piece: it is taken at its first one.
+    return tuple([piece for room, piece in around if piece[0][0] == room])
+
+
+def piece_around(odds, room):
+    """The piece of a room where something is amiss."""
+    rooms = (room,)
+    kinds = kinds_tied_to(odds, rooms)
+    wider = rooms_tied_to(odds, kinds)
+    while wider != rooms:
+        rooms = wider
+        kinds = kinds_tied_to(odds, rooms)
+        wider = rooms_tied_to(odds, kinds)
+    return (rooms, kinds)
+
+
+def kinds_tied_to(odds, rooms):
+    """The kinds of which something is amiss in some of the rooms, rising."""
+    return tuple([
+        kind for kind in range(len(odds[0])) if any([odds[room][kind] != 0 for room in rooms])
+    ])
+
+
+def rooms_tied_to(odds, kinds):
+    """The rooms in which something is amiss of some of the kinds, rising."""
+    return tuple([
+        room for room in range(len(odds)) if any([odds[room][kind] != 0 for kind in kinds])
+    ])
+
+
+def is_shut(house, stand, piece):
+    """Whether each room of a piece is full."""
+    free = places(house, stand)
+    return all([free[room] == 0 for room in piece[0]])
+
+
+def shut_pieces(house, stand, wish):
+    """All pieces that are shut, by their first rooms."""
+    return tuple([piece for piece in pieces(stand, wish) if is_shut(house, stand, piece)])

@@ -1,0 +1,68 @@
+"""What all tests use: asking so that all that holds of every call is looked at, and odd things to hand in."""
+
+import itertools
+import unittest
+
+DEEP = ()
+for _ in range(19):
+    DEEP = (DEEP, 0)
+
+
+def odd_things():
+    """Things of all kinds that are no whole number, a new list each time."""
+    return [
+        None, True, False, "", "0", "1", "a text\nof two lines", "~" * 5000,
+        (), (0,), (1,), (1, 2, 3), ((1,), 1), ((1,), (1,)), DEEP, (None,) * 1000,
+        [], [0], [1], [[1], 1], [0, 0, 1], [0] * 1000, {}, {0: 1}, {"kind": 0, "here": (1, [2])},
+    ]
+
+
+def stands_of(house):
+    """All stands of a small house."""
+    sizes, kinds = house
+    rows = [
+        [row for row in itertools.product(range(size + 1), repeat=kinds) if sum(row) <= size]
+        for size in sizes
+    ]
+    return list(itertools.product(*rows))
+
+
+def spoilt(thing):
+    """What a tuple of tuples and whole numbers comes to where one thing in it is put otherwise."""
+    if not isinstance(thing, tuple):
+        return [None, str(thing), [thing], (thing,), {thing: thing}, True, False, 10 ** 59, -1, -(10 ** 59)]
+    told = [None, True, 1, "", list(thing), dict(enumerate(thing)), (thing,), [thing]]
+    told += [thing + (0,), thing + thing[-1:], thing[:-1], thing[1:], ()]
+    for at, part in enumerate(thing):
+        told += [thing[:at] + (other,) + thing[at + 1:] for other in spoilt(part)]
+    return told
+
+
+class Asking(unittest.TestCase):
+    """Looks at each call for what [2] promises of all: told apart by repr, for True == 1 and 1 == True."""
+
+    def ask(self, function, *handed):
+        ahead = repr(handed)
+        told = function(*handed)
+        self.assertEqual(ahead, repr(handed), "what was handed in is changed")
+        self.assertEqual(repr(told), repr(function(*handed)), "asked twice, answered otherwise")
+        self.assert_plain(told)
+        return told
+
+    def assert_plain(self, told):
+        self.assertIn(type(told), (tuple, str, int, bool, type(None)))
+        if isinstance(told, tuple):
+            for part in told:
+                self.assert_plain(part)
+
+    def assert_tells(self, wanted, function, *handed):
+        self.assertEqual(repr(wanted), repr(self.ask(function, *handed)), repr(handed)[:300])
+
+    def assert_refuses(self, error, field, worth, function, *handed):
+        ahead = repr(handed)
+        for _ in range(2):
+            with self.assertRaises(error) as caught:
+                function(*handed)
+            self.assertIs(type(caught.exception), error)
+            self.assertIs(getattr(caught.exception, field), worth)
+            self.assertEqual(ahead, repr(handed), "what was handed in is changed")

@@ -1,0 +1,151 @@
+"""The rules of LANGUAGE.md that can be seen in a file by itself, for every file of the package."""
+
+import ast
+import builtins
+import pathlib
+import re
+import unittest
+
+PACKAGE = pathlib.Path(__file__).resolve().parent.parent / "fullrooms"
+BUILTINS = """
+    len range enumerate zip min max sum abs sorted reversed int str bool bytes list tuple dict set frozenset
+    isinstance ord repr any all divmod iter next super property staticmethod classmethod Exception ValueError
+    TypeError KeyError IndexError LookupError ZeroDivisionError ArithmeticError OverflowError RuntimeError
+    NotImplementedError AttributeError StopIteration NotImplemented
+""".split()
+BARRED_WORDS = """
+    type typing typing_extensions enum Enum IntEnum StrEnum Flag IntFlag Generic Protocol ABC ABCMeta namedtuple
+    NamedTuple TypedDict TYPE_CHECKING abstractmethod
+""".split()
+BARRED_NAMES = """
+    register mro elements open input version_info with_traceback add_note attrgetter breakpoint builtins compile
+    copyright credits delattr dir eval exec exit gc getattr globals hasattr help id importlib license locals
+    methodcaller os quit setattr vars sys print chr format format_map
+""".split()
+DUNDERS = """
+    __init__ __eq__ __repr__ __str__ __len__ __enter__ __exit__ __call__ __iter__ __name__ __slots__
+""".split()
+AT_ONCE = ("zip", "enumerate", "reversed", "range")
+
+
+def files():
+    return sorted(path for path in PACKAGE.rglob("*") if "__pycache__" not in path.parts)
+
+
+def trees():
+    return [(path.name, ast.parse(path.read_text())) for path in files()]
+
+
+def nodes(*kinds):
+    return [(name, node) for name, tree in trees() for node in ast.walk(tree) if isinstance(node, kinds)]
+
+
+def names():
+    """Every name that stands in the package's code, with its file and line."""
+    for file, node in nodes(ast.Name, ast.Attribute, ast.arg, ast.FunctionDef, ast.ClassDef, ast.alias, ast.keyword):
+        for field in ("id", "attr", "arg", "name", "asname"):
+            if isinstance(getattr(node, field, None), str):
+                yield f"{file}:{node.lineno}", getattr(node, field)
+
+
+def called(node):
+    """The plain name that is called, if one is."""
+    return node.func.id if isinstance(node, ast.Call) and isinstance(node.func, ast.Name) else None
+
+
+class Language(unittest.TestCase):
+
+    def test_files(self):
+        self.assertTrue((PACKAGE / "__init__.py").is_file())
+        for path in files():
+            self.assertRegex(path.name, r"^[a-z_][a-z0-9_]*\.py$", "L1, L14")
+            self.assertNotIn(path.stem, [*dir(builtins), *BARRED_WORDS], "L14")
+
+    def test_signs_and_sizes(self):
+        for path in files():
+            text = path.read_bytes().decode("ascii")
+            self.assertRegex(text, r"^[\n -~]*$", "L14")
+            lines = text.split("\n")
+            self.assertLessEqual(len(lines), 401, "L10")
+            for at, line in enumerate(lines):
+                self.assertLessEqual(len(line), 120, f"L10 {path.name}:{at + 1}")
+        for name, node in nodes(ast.FunctionDef):
+            self.assertLessEqual(node.end_lineno - node.lineno + 1, 40, f"L10 {name}:{node.lineno}")
+
+    def test_words(self):
+        for path in files():
+            text = path.read_text()
+            for word in BARRED_WORDS:
+                self.assertIsNone(re.search(rf"\b{word}\b", text), f"L17 {word} {path.name}")
+            for word in ("dataclass", "overload", "contextmanager"):
+                self.assertNotIn(word, text, f"L17 {path.name}")
+
+    def test_names(self):
+        for where, name in names():
+            for part in name.split("."):
+                self.assertTrue(part in DUNDERS or re.match(r"^[A-Za-z][A-Za-z0-9_]*$", part), f"L12 {where} {name}")
+                self.assertNotIn(part, BARRED_NAMES, f"L17 {where}")
+                self.assertTrue(part in BUILTINS or not is_builtin(part), f"L8 {where} {name}")
+
+    def test_imports(self):
+        for name, node in nodes(ast.Import):
+            self.fail(f"L16 {name}:{node.lineno}")
+        for name, node in nodes(ast.ImportFrom):
+            self.assertEqual(0, node.level, f"L2 {name}:{node.lineno}")
+            self.assertRegex(node.module, r"^(fullrooms\.[a-z_]+|__future__)$", f"L2 {name}:{node.lineno}")
+            self.assertNotIn("*", [alias.name for alias in node.names], f"L2 {name}:{node.lineno}")
+
+    def test_values(self):
+        for name, node in nodes(ast.Constant):
+            self.assertNotIsInstance(node.value, (float, complex), f"L7 {name}:{node.lineno}")
+            if isinstance(node.value, str):
+                self.assertNotIn("%", node.value, f"L27 {name}:{node.lineno}")
+        for name, node in nodes(ast.Div, ast.Global, ast.AsyncFunctionDef, ast.Await):
+            self.fail(f"L6, L7 {name}")
+
+    def test_is(self):
+        for name, node in nodes(ast.Compare):
+            for sign, right in zip(node.ops, node.comparators):
+                if isinstance(sign, (ast.Is, ast.IsNot)):
+                    plain = isinstance(right, ast.Constant) and right.value in (None, True, False)
+                    self.assertTrue(plain, f"L20 {name}:{node.lineno}")
+
+    def test_iterated_at_once(self):
+        for name, node in nodes(ast.Assign, ast.Return):
+            self.assertNotIn(called(node.value), AT_ONCE, f"L23 {name}:{node.lineno}")
+
+    def test_lists_for_what_may_meet_own_objects(self):
+        for name, node in nodes(ast.Call):
+            if called(node) in ("any", "all", "min", "max", "sum", "sorted"):
+                kinds = [type(told) for told in node.args]
+                self.assertNotIn(ast.GeneratorExp, kinds, f"L7 {name}:{node.lineno}")
+
+    def test_module_level(self):
+        for name, tree in trees():
+            for node in tree.body:
+                plain = (ast.ImportFrom, ast.FunctionDef, ast.ClassDef, ast.Assign)
+                doc = isinstance(node, ast.Expr) and isinstance(node.value, ast.Constant)
+                self.assertTrue(doc or isinstance(node, plain), f"L3 {name}:{node.lineno}")
+            bound = [node.name for node in tree.body if isinstance(node, (ast.FunctionDef, ast.ClassDef))]
+            bound += [node.targets[0].id for node in tree.body if isinstance(node, ast.Assign)]
+            bound += [alias.asname or alias.name for node in tree.body if isinstance(node, ast.ImportFrom)
+                      for alias in node.names]
+            self.assertEqual(len(set(bound)), len(bound), f"L15 {name}")
+
+    def test_no_variable_has_an_imports_or_a_classs_name(self):
+        for name, tree in trees():
+            taken = [alias.name for node in tree.body if isinstance(node, ast.ImportFrom) for alias in node.names]
+            taken += [node.name for node in tree.body if isinstance(node, ast.ClassDef)] + BUILTINS
+            for node in ast.walk(tree):
+                if isinstance(node, ast.arg):
+                    self.assertNotIn(node.arg, taken, f"L15 {name}:{node.lineno}")
+                if isinstance(node, ast.Name) and isinstance(node.ctx, ast.Store):
+                    self.assertNotIn(node.id, taken, f"L15 {name}:{node.lineno}")
+
+
+def is_builtin(word):
+    return hasattr(builtins, word) and not word.startswith("__")
+
+
+if __name__ == "__main__":
+    unittest.main()
