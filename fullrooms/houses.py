@@ -61,6 +61,17 @@ def places(house, stand):
     return tuple([size - sum(row) for size, row in zip(house[0], stand)])
 
 
+def has_place(house, stand):
+    """Whether some room has a place free."""
+    return any([free > 0 for free in places(house, stand)])
+
+
+def are_full(house, stand, rooms):
+    """Whether each of the rooms is full."""
+    free = places(house, stand)
+    return all([free[room] == 0 for room in rooms])
+
+
 def things(stand):
     """How many things of each kind there are in all rooms together, kind by kind."""
     return tuple([sum(column) for column in zip(*stand)])

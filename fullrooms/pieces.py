@@ -1,6 +1,27 @@
 """What is amiss between a stand and a wish, and the pieces that hang together by it."""
 
-from fullrooms.houses import places
+from fullrooms.errors import Unlike
+from fullrooms.houses import are_full, has_place, things
+
+
+def first_unlike(stand, wish):
+    """The first kind of which both do not have as many; None where they are of the same things."""
+    for kind, (many, wished) in enumerate(zip(things(stand), things(wish))):
+        if many != wished:
+            return kind
+    return None
+
+
+def check_like(stand, wish):
+    """Refuse a wish that is not of the same things."""
+    kind = first_unlike(stand, wish)
+    if kind is not None:
+        raise Unlike(kind)
+
+
+def is_stuck(house, stand, wish):
+    """Whether something is amiss and no room has a place, so that no deed can be done."""
+    return stand != wish and not has_place(house, stand)
 
 
 def amiss(stand, wish):
@@ -53,8 +74,7 @@ def rooms_tied_to(odds, kinds):
 
 def is_shut(house, stand, piece):
     """Whether each room of a piece is full."""
-    free = places(house, stand)
-    return all([free[room] == 0 for room in piece[0]])
+    return are_full(house, stand, piece[0])
 
 
 def shut_pieces(house, stand, wish):

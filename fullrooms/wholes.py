@@ -16,3 +16,8 @@ def is_whole(thing):
 def is_from(thing, low, high):
     """Whether anything is a whole number from low to high, both included."""
     return is_whole(thing) and low <= thing <= high
+
+
+def is_rising(row):
+    """Whether each of a row's numbers, or tuples of numbers, is below the next."""
+    return all([low < high for low, high in zip(row, row[1:])])

@@ -27,6 +27,56 @@ def stands_of(house):
     return list(itertools.product(*rows))
 
 
+def like_pairs(house):
+    """All pairs of a stand and a wish of the same things, of a small house."""
+    heaps = {}
+    for stand in stands_of(house):
+        heaps.setdefault(tuple(map(sum, zip(*stand))), []).append(stand)
+    return [pair for heap in heaps.values() for pair in itertools.product(heap, repeat=2)]
+
+
+def stands_behind(house, stand):
+    """The stands behind each deed that can be done, by the words of [6] alone."""
+    sizes, kinds = house
+    rooms = range(len(sizes))
+    for kind, here, there in itertools.product(range(kinds), rooms, rooms):
+        if here != there and stand[here][kind] > 0 and sum(stand[there]) < sizes[there]:
+            rows = [list(row) for row in stand]
+            rows[here][kind] -= 1
+            rows[there][kind] += 1
+            yield tuple(map(tuple, rows))
+
+
+def beats_from(house, stand):
+    """All stands that any deeds lead to, each with the beat at which it is first come to."""
+    beats = {stand: 0}
+    front = [stand]
+    while front:
+        come = []
+        for one in front:
+            for other in stands_behind(house, one):
+                if other not in beats:
+                    beats[other] = beats[one] + 1
+                    come.append(other)
+        front = come
+    return beats
+
+
+def grown(chance, house, most, stands):
+    """So many stands of a house that have the same things, at most so many, as a seeded chance tells."""
+    sizes, kinds = house
+    told = []
+    bag = [chance.randrange(kinds) for _ in range(min(most, sum(sizes)))]
+    for _ in range(stands):
+        spots = [room for room, size in enumerate(sizes) for _ in range(size)]
+        chance.shuffle(spots)
+        rows = [[0] * kinds for _ in sizes]
+        for kind, room in zip(bag, spots):
+            rows[room][kind] += 1
+        told.append(tuple(map(tuple, rows)))
+    return tuple(told)
+
+
 def spoilt(thing):
     """What a tuple of tuples and whole numbers comes to where one thing in it is put otherwise."""
     if not isinstance(thing, tuple):
@@ -64,5 +114,8 @@ class Asking(unittest.TestCase):
             with self.assertRaises(error) as caught:
                 function(*handed)
             self.assertIs(type(caught.exception), error)
-            self.assertIs(getattr(caught.exception, field), worth)
+            if field is None:
+                self.assertEqual({}, vars(caught.exception))
+            else:
+                self.assertIs(getattr(caught.exception, field), worth)
             self.assertEqual(ahead, repr(handed), "what was handed in is changed")

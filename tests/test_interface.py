@@ -3,7 +3,7 @@
 import inspect
 import unittest
 
-from fullrooms import houses, pieces, wholes
+from fullrooms import arcs, fewest, hanging, houses, papers, pieces, wholes
 
 FUNCTIONS = [
     (wholes, "is_whole", ["thing"]),
@@ -21,6 +21,16 @@ FUNCTIONS = [
     (pieces, "pieces", ["stand", "wish"]),
     (pieces, "is_shut", ["house", "stand", "piece"]),
     (pieces, "shut_pieces", ["house", "stand", "wish"]),
+    (fewest, "fewest", ["house", "stand", "wish"]),
+    (papers, "none_fewer", ["house", "stand", "wish"]),
+    (papers, "none_fewer_holds", ["house", "stand", "wish", "thing"]),
+    (papers, "bar_holds", ["house", "stand", "wish", "thing"]),
+    (arcs, "matching", ["stand", "wish"]),
+    (arcs, "matching_holds", ["stand", "wish", "thing"]),
+    (arcs, "parts", ["arcs"]),
+    (arcs, "is_closed", ["house", "stand", "rooms"]),
+    (arcs, "exchanged", ["arcs", "one", "other"]),
+    (hanging, "hung", ["house", "stand", "wish"]),
 ]
 
 

@@ -25,6 +25,11 @@ BARRED_NAMES = """
 DUNDERS = """
     __init__ __eq__ __repr__ __str__ __len__ __enter__ __exit__ __call__ __iter__ __name__ __slots__
 """.split()
+METHODS = """
+    append clear copy count endswith extend find get index insert isalnum isalpha isdigit islower isspace isupper
+    items join keys ljust lower lstrip partition pop remove replace reverse rfind rjust rpartition rsplit rstrip
+    setdefault split splitlines startswith strip update upper values zfill bit_length add discard
+""".split()
 AT_ONCE = ("zip", "enumerate", "reversed", "range")
 
 
@@ -119,6 +124,42 @@ class Language(unittest.TestCase):
             if called(node) in ("any", "all", "min", "max", "sum", "sorted"):
                 kinds = [type(told) for told in node.args]
                 self.assertNotIn(ast.GeneratorExp, kinds, f"L7 {name}:{node.lineno}")
+
+    def test_methods(self):
+        own = [row.name for name, node in nodes(ast.ClassDef) for row in node.body if isinstance(row, ast.FunctionDef)]
+        for name, node in nodes(ast.Call):
+            if isinstance(node.func, ast.Attribute):
+                self.assertIn(node.func.attr, METHODS + own, f"L25 {name}:{node.lineno}")
+
+    def test_what_stands_behind_a_star_in_a_call(self):
+        plain = (ast.Name, ast.Attribute, ast.Constant, ast.List, ast.Tuple, ast.Dict)
+        for name, node in nodes(ast.Call):
+            for told in node.args:
+                if isinstance(told, ast.Starred):
+                    self.assertIsInstance(told.value, plain, f"L7 {name}:{node.lineno}")
+
+    def test_where_sets_are_written(self):
+        for name, tree in trees():
+            placed = []
+            for node in ast.walk(tree):
+                if called(node) in ("sorted", "len"):
+                    placed += node.args
+                if isinstance(node, ast.Compare):
+                    placed += [node.left, *node.comparators]
+                if isinstance(node, ast.Assign) and isinstance(node.targets[0], ast.Name):
+                    placed.append(node.value)
+            for node in ast.walk(tree):
+                if isinstance(node, (ast.Set, ast.SetComp)) or called(node) == "set":
+                    self.assertIn(node, placed, f"L24 {name}:{node.lineno}")
+
+    def test_no_two_files_import_from_each_other(self):
+        leads = {name[:-3]: [] for name, tree in trees()}
+        for name, node in nodes(ast.ImportFrom):
+            leads[name[:-3]].append(node.module.split(".")[-1])
+        while leads:
+            ends = [name for name, others in leads.items() if not [other for other in others if other in leads]]
+            self.assertNotEqual([], ends, "L16")
+            leads = {name: others for name, others in leads.items() if name not in ends}
 
     def test_module_level(self):
         for name, tree in trees():

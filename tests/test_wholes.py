@@ -4,7 +4,7 @@ import unittest
 
 from asking import Asking, odd_things
 from fullrooms import wholes
-from fullrooms.wholes import is_from, is_whole
+from fullrooms.wholes import is_from, is_rising, is_whole
 
 WHOLE = [0, 1, -1, 2, 8, 600, 10 ** 12, 10 ** 12 + 1, 10 ** 59, -(10 ** 59)]
 
@@ -42,6 +42,12 @@ class Wholes(Asking):
             self.assert_tells(False, is_from, thing, 0, 1)
             self.assert_tells(False, is_from, thing, 1, 1)
             self.assert_tells(False, is_from, thing, 0, 0)
+
+    def test_rising(self):
+        for row in [(), (5,), (0, 1), (0, 2, 7), ((0, 1), (0, 2), (1, 0)), [(0, 9, 9), (1, 0, 0)]]:
+            self.assert_tells(True, is_rising, row)
+        for row in [(0, 0), (1, 0), (0, 2, 2), (0, 2, 1), (2, 0, 1), ((0, 1), (0, 1)), [(1, 0, 0), (0, 9, 9)]]:
+            self.assert_tells(False, is_rising, row)
 
 
 if __name__ == "__main__":
