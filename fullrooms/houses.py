@@ -1,7 +1,7 @@
 """Houses, the stands of things in them, and deeds that carry things about."""
 
-from fullrooms.errors import Full, Lacks, NoKind, NoNumber, NoRoom
-from fullrooms.wholes import GREAT, KINDS, ROOMS, is_from
+from fullrooms.errors import Full, Lacks, NoKind, NoRoom
+from fullrooms.wholes import GREAT, KINDS, ROOMS, check_from, is_from
 
 
 def is_house(thing):
@@ -86,19 +86,29 @@ def moved(house, stand, deed):
 def moved_many(house, stand, deed, many):
     """The stand behind so many times of the same deed."""
     check_deed(house, deed)
-    if not is_from(many, 0, GREAT):
-        raise NoNumber(many)
+    check_from(many, 0, GREAT)
     return carried(house, stand, deed, many)
+
+
+def check_kind(house, kind):
+    """Refuse anything that is no kind's number."""
+    if not is_kind(house, kind):
+        raise NoKind(kind)
+
+
+def check_room(house, room):
+    """Refuse anything that is no room's number."""
+    if not is_room(house, room):
+        raise NoRoom(room)
 
 
 def check_deed(house, deed):
     """Refuse a tuple of three that is no deed of the house."""
     kind, here, there = deed
-    if not is_kind(house, kind):
-        raise NoKind(kind)
-    if not is_room(house, here):
-        raise NoRoom(here)
-    if not is_room(house, there) or there == here:
+    check_kind(house, kind)
+    check_room(house, here)
+    check_room(house, there)
+    if there == here:
         raise NoRoom(there)
 
 
@@ -112,15 +122,15 @@ def carried(house, stand, deed, many):
         raise Lacks(here)
     if free < many:
         raise Full(there)
+    return with_more(with_more(stand, here, kind, -many), there, kind, many)
+
+
+def with_more(stand, room, kind, more):
+    """The stand with so many more of a kind in a room, or fewer where more is below 0."""
+    row = stand[room]
     rows = list(stand)
-    rows[here] = row_with(stand[here], kind, -many)
-    rows[there] = row_with(stand[there], kind, many)
+    rows[room] = row[:kind] + (row[kind] + more,) + row[kind + 1:]
     return tuple(rows)
-
-
-def row_with(row, kind, more):
-    """A room's row with so many more of one kind, or fewer where more is below 0."""
-    return row[:kind] + (row[kind] + more,) + row[kind + 1:]
 
 
 def deeds_at(house, stand):

@@ -40,10 +40,11 @@ def too_many(stand, wish):
 def pieces(stand, wish):
     """All pieces, by their first rooms."""
     odds = amiss(stand, wish)
-    tied = [room for room, row in enumerate(odds) if any([odd != 0 for odd in row])]
-    around = [(room, piece_around(odds, room)) for room in tied]
-    # Each room of a piece leads to the same piece: it is taken at its first one.
-    return tuple([piece for room, piece in around if piece[0][0] == room])
+    found = []
+    for room, row in enumerate(odds):
+        if any([odd != 0 for odd in row]) and not any([room in piece[0] for piece in found]):
+            found.append(piece_around(odds, room))
+    return tuple(found)
 
 
 def piece_around(odds, room):

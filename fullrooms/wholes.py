@@ -1,5 +1,7 @@
 """Whole numbers, and the bounds that the document sets for them."""
 
+from fullrooms.errors import NoNumber
+
 ROOMS = 8
 KINDS = 6
 GREAT = 10 ** 12
@@ -16,6 +18,12 @@ def is_whole(thing):
 def is_from(thing, low, high):
     """Whether anything is a whole number from low to high, both included."""
     return is_whole(thing) and low <= thing <= high
+
+
+def check_from(thing, low, high):
+    """Refuse anything that is no whole number from low to high, both included."""
+    if not is_from(thing, low, high):
+        raise NoNumber(thing)
 
 
 def is_rising(row):

@@ -4,16 +4,10 @@ import itertools
 import random
 import unittest
 
-from asking import Asking, beats_from, grown, like_pairs, stands_of
+from asking import GREAT, SMALL, Asking, beats_from, grown, like_pairs, stands_of
 from fullrooms.errors import NoPlace, Unlike
 from fullrooms.fewest import fewest
 
-GREAT = 10 ** 12
-SMALL = [
-    ((2, 2), 2), ((3, 1), 2), ((1, 2), 3), ((1, 1), 2), ((4, 2), 1),
-    ((1, 1, 1), 3), ((2, 1, 1), 2), ((2, 2, 1), 2), ((1, 3, 1), 2), ((2, 2, 2), 1),
-    ((1, 1, 1, 1), 4), ((2, 1, 1, 1), 2), ((1, 1, 2, 1), 2), ((1, 2, 1, 2), 1),
-]
 # Two shut pieces, rooms 0 and 2 and rooms 1 and 3, beside rooms 4 and 5, a piece with a place.
 HOUSE = ((1, 1, 1, 1, 2, 2), 5)
 STAND = ((1, 0, 0, 0, 0), (0, 1, 0, 0, 0), (0, 0, 1, 0, 0), (0, 0, 0, 1, 0), (0, 0, 0, 0, 2), (0, 0, 0, 0, 0))

@@ -3,7 +3,7 @@
 import inspect
 import unittest
 
-from fullrooms import arcs, fewest, hanging, houses, papers, pieces, wholes
+from fullrooms import arcs, changes, fewest, hanging, houses, leading, papers, pieces, stores, trails, wholes
 
 FUNCTIONS = [
     (wholes, "is_whole", ["thing"]),
@@ -31,6 +31,45 @@ FUNCTIONS = [
     (arcs, "is_closed", ["house", "stand", "rooms"]),
     (arcs, "exchanged", ["arcs", "one", "other"]),
     (hanging, "hung", ["house", "stand", "wish"]),
+    (trails, "plan", ["house", "stand", "wish"]),
+    (leading, "leads", ["house", "stand", "wish"]),
+    (leading, "costs", ["house", "stand", "wish", "deed"]),
+    (leading, "is_between", ["house", "one", "other", "third"]),
+    (leading, "first_towards", ["house", "one", "other"]),
+    (changes, "saved", ["house", "stand", "wish", "room", "many"]),
+    (changes, "places_for", ["house", "stand", "wish", "number"]),
+    (changes, "one_kind", ["house", "stand", "one", "other"]),
+    (changes, "one_room", ["house", "stand", "one", "other"]),
+    (changes, "without", ["house", "stand", "wish", "rooms"]),
+    (changes, "filled", ["house", "stand", "wish"]),
+]
+# Each class with its methods: what they are handed by its place, and what by its name, with what stands for it.
+METHODS = [
+    (stores.Store, "__init__", ["house", "stand"], {"most": 60}),
+    (stores.Store, "carry", ["kind", "here", "there", "many"], {}),
+    (stores.Store, "bring", ["kind", "room", "many"], {}),
+    (stores.Store, "take", ["kind", "room", "many"], {}),
+    (stores.Store, "widen", ["room", "many"], {}),
+    (stores.Store, "narrow", ["room", "many"], {}),
+    (stores.Store, "lock", ["room"], {}),
+    (stores.Store, "unlock", ["room"], {}),
+    (stores.Store, "wish", ["name", "stand"], {}),
+    (stores.Store, "drop", ["name"], {}),
+    (stores.Store, "back", [], {}),
+    (stores.Store, "house", [], {"at": None}),
+    (stores.Store, "stand", [], {"at": None}),
+    (stores.Store, "locked", [], {"at": None}),
+    (stores.Store, "wishes", [], {"at": None}),
+    (stores.Store, "wished", ["name"], {"at": None}),
+    (stores.Store, "fewest", ["name"], {"at": None}),
+    (stores.Store, "plan", ["name"], {"at": None}),
+    (stores.Store, "leads", ["name"], {"at": None}),
+    (stores.Store, "tried", ["deeds"], {}),
+    (stores.Store, "log", [], {}),
+    (stores.Store, "twin", [], {}),
+    (stores.Store, "__eq__", ["other"], {}),
+    (stores.Store, "__len__", [], {}),
+    (stores.Store, "__str__", [], {}),
 ]
 
 
@@ -43,6 +82,14 @@ class Interface(unittest.TestCase):
             for argument in told.values():
                 self.assertIs(inspect.Parameter.POSITIONAL_OR_KEYWORD, argument.kind, word)
                 self.assertIs(inspect.Parameter.empty, argument.default, word)
+
+    def test_methods_stand_in_their_class_and_take_what_is_told(self):
+        for cls, word, places, names in METHODS:
+            self.assertIn(word, vars(cls))
+            told = list(inspect.signature(vars(cls)[word]).parameters.values())[1:]
+            by_name = [argument for argument in told if argument.kind is inspect.Parameter.KEYWORD_ONLY]
+            self.assertEqual(places, [argument.name for argument in told if argument not in by_name], word)
+            self.assertEqual(names, {argument.name: argument.default for argument in by_name}, word)
 
 
 if __name__ == "__main__":

@@ -173,6 +173,49 @@ class Language(unittest.TestCase):
                       for alias in node.names]
             self.assertEqual(len(set(bound)), len(bound), f"L15 {name}")
 
+    def test_no_name_is_a_method_and_an_attribute(self):
+        methods = {row.name for name, node in nodes(ast.ClassDef) for row in node.body if isinstance(row, ast.FunctionDef)}
+        stored = {node.attr for name, node in nodes(ast.Attribute) if isinstance(node.ctx, ast.Store)}
+        self.assertEqual(set(), methods & stored, "L18")
+        # One reading of the files, so that what is called can be known again.
+        read = nodes(ast.Attribute, ast.Call)
+        called_off = [node.func for name, node in read if isinstance(node, ast.Call)]
+        for name, node in read:
+            if isinstance(node, ast.Attribute) and node not in called_off:
+                self.assertIn(node.attr, stored, f"L18 {name}:{node.lineno}")
+
+    def test_what_compares_and_shows_changes_nothing(self):
+        for name, node in nodes(ast.FunctionDef):
+            if node.name in ("__eq__", "__str__", "__len__", "__repr__"):
+                changing = (ast.Assign, ast.AugAssign, ast.AnnAssign, ast.Delete, ast.NamedExpr)
+                self.assertFalse([row for row in ast.walk(node) if isinstance(row, changing)], f"L28 {name}:{node.lineno}")
+                self.assertIsInstance(node.body[-1], ast.Return, f"L28 {name}:{node.lineno}")
+
+    def test_caught_are_own_errors_alone(self):
+        own = [node.name for name, node in nodes(ast.ClassDef) if name == "errors.py"]
+        for name, node in nodes(ast.ExceptHandler):
+            caught = node.type.elts if isinstance(node.type, ast.Tuple) else [node.type]
+            for one in caught:
+                self.assertIn(one.id, own, f"L19 {name}:{node.lineno}")
+
+    def test_raised_on_the_spot(self):
+        own = [node.name for name, node in nodes(ast.ClassDef) if name == "errors.py"]
+        for name, node in nodes(ast.Raise):
+            if node.exc is not None:
+                self.assertIn(called(node.exc), own, f"L19 {name}:{node.lineno}")
+
+    def test_no_loop_changes_what_it_goes_over(self):
+        changing = ("append", "clear", "extend", "insert", "pop", "remove", "reverse", "setdefault", "update", "sort")
+        for name, loop in nodes(ast.For):
+            over = {ast.dump(part) for part in ast.walk(loop.iter) if isinstance(part, (ast.Name, ast.Attribute))}
+            for row in loop.body:
+                for node in ast.walk(row):
+                    if isinstance(node, ast.Call) and isinstance(node.func, ast.Attribute):
+                        if node.func.attr in changing:
+                            self.assertNotIn(ast.dump(node.func.value), over, f"L23 {name}:{node.lineno}")
+                    if isinstance(node, ast.Subscript) and not isinstance(node.ctx, ast.Load):
+                        self.assertNotIn(ast.dump(node.value).replace("Store", "Load"), over, f"L23 {name}:{node.lineno}")
+
     def test_no_variable_has_an_imports_or_a_classs_name(self):
         for name, tree in trees():
             taken = [alias.name for node in tree.body if isinstance(node, ast.ImportFrom) for alias in node.names]
