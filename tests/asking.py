@@ -99,7 +99,7 @@ def shared_out(chance, sizes, heap):
 
 
 def great_task(chance, most=GREAT, stands=2):
-    """A house of up to eight rooms and six kinds, of sizes up to so many, and stands of the same things, one place free."""
+    """A house of up to eight rooms and six kinds, of sizes up to so many, and stands of the same things, not full."""
     sizes = tuple(chance.randrange(most) + 1 for _ in range(chance.randrange(2, 9)))
     kinds = chance.randrange(1, 7)
     cuts = sorted(chance.randrange(sum(sizes)) for _ in range(kinds - 1))

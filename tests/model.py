@@ -47,7 +47,7 @@ class Model:
         return True
 
     def due(self, word, handed):
-        """Each refusal that is due, in the document's order, as (class name, field); what is behind the first is idle."""
+        """The refusals that are due, in the document's order, as (class name, field); right up to the first alone."""
         told = dict(zip(TAKES[word], handed))
         rooms = [told[key] for key in ("here", "there", "room") if key in told]
         if len(self.past) >= self.most:

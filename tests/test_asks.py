@@ -320,8 +320,8 @@ class Tried(Looking):
     def test_each_word(self):
         store = Store(HOUSE, STAND)
         store.tried([
-            ("carry", 0, 0, 2, 1), ("bring", 1, 3, 1), ("take", 1, 0, 1), ("widen", 0, 5), ("narrow", 0, 1), ("lock", 2),
-            ("unlock", 2), ("wish", "a", WISH), ("drop", "a"),
+            ("carry", 0, 0, 2, 1), ("bring", 1, 3, 1), ("take", 1, 0, 1), ("widen", 0, 5), ("narrow", 0, 1),
+            ("lock", 2), ("unlock", 2), ("wish", "a", WISH), ("drop", "a"),
         ])
         self.assertEqual(9, len(store))
         self.assertEqual((((8, 3, 5, 1), 2), ((1, 0), (1, 2), (1, 1), (0, 1)), (), ()), told_by(store))
@@ -399,8 +399,8 @@ class Tried(Looking):
     def test_by_chance(self):
         chance = random.Random(5)
         worths = {
-            "kind": [0, 0, 1, 2], "room": [0, 1, 2, 3, 4], "here": [0, 1, 2, 3], "there": [0, 1, 2, 3], "many": [1, 1, 2, 0],
-            "name": ["a", "b", "C"], "stand": [STAND, WISH, ()],
+            "kind": [0, 0, 1, 2], "room": [0, 1, 2, 3, 4], "here": [0, 1, 2, 3], "there": [0, 1, 2, 3],
+            "many": [1, 1, 2, 0], "name": ["a", "b", "C"], "stand": [STAND, WISH, ()],
         }
         broken = 0
         for _ in range(300):

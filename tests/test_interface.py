@@ -3,7 +3,9 @@
 import inspect
 import unittest
 
-from fullrooms import arcs, changes, fewest, hanging, houses, leading, papers, pieces, stores, trails, wholes
+from fullrooms import (
+    arcs, changes, desks, fewest, hanging, houses, leading, papers, pieces, plans, stores, texts, trails, verdicts, wholes
+)
 
 FUNCTIONS = [
     (wholes, "is_whole", ["thing"]),
@@ -32,6 +34,15 @@ FUNCTIONS = [
     (arcs, "exchanged", ["arcs", "one", "other"]),
     (hanging, "hung", ["house", "stand", "wish"]),
     (trails, "plan", ["house", "stand", "wish"]),
+    (plans, "is_plan", ["house", "thing"]),
+    (plans, "plan_holds", ["house", "stand", "wish", "thing"]),
+    (plans, "is_least", ["house", "stand", "wish", "thing"]),
+    (plans, "length", ["plan"]),
+    (plans, "after", ["house", "stand", "plan", "number"]),
+    (plans, "deed_at", ["plan", "number"]),
+    (plans, "worked", ["house", "plan"]),
+    (verdicts, "verdict", ["house", "stand", "wish"]),
+    (verdicts, "verdict_holds", ["house", "stand", "wish", "thing"]),
     (leading, "leads", ["house", "stand", "wish"]),
     (leading, "costs", ["house", "stand", "wish", "deed"]),
     (leading, "is_between", ["house", "one", "other", "third"]),
@@ -42,6 +53,12 @@ FUNCTIONS = [
     (changes, "one_room", ["house", "stand", "one", "other"]),
     (changes, "without", ["house", "stand", "wish", "rooms"]),
     (changes, "filled", ["house", "stand", "wish"]),
+    (texts, "house_text", ["house"]),
+    (texts, "stand_text", ["stand"]),
+    (texts, "plan_text", ["plan"]),
+    (texts, "read_house", ["thing"]),
+    (texts, "read_stand", ["house", "thing"]),
+    (texts, "read_plan", ["house", "thing"]),
 ]
 # Each class with its methods: what they are handed by its place, and what by its name, with what stands for it.
 METHODS = [
@@ -70,6 +87,9 @@ METHODS = [
     (stores.Store, "__eq__", ["other"], {}),
     (stores.Store, "__len__", [], {}),
     (stores.Store, "__str__", [], {}),
+    (desks.Desk, "__init__", ["store"], {}),
+    (desks.Desk, "say", ["row"], {}),
+    (desks.Desk, "heard", [], {}),
 ]
 
 

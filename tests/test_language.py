@@ -174,7 +174,8 @@ class Language(unittest.TestCase):
             self.assertEqual(len(set(bound)), len(bound), f"L15 {name}")
 
     def test_no_name_is_a_method_and_an_attribute(self):
-        methods = {row.name for name, node in nodes(ast.ClassDef) for row in node.body if isinstance(row, ast.FunctionDef)}
+        rows = [row for name, node in nodes(ast.ClassDef) for row in node.body]
+        methods = {row.name for row in rows if isinstance(row, ast.FunctionDef)}
         stored = {node.attr for name, node in nodes(ast.Attribute) if isinstance(node.ctx, ast.Store)}
         self.assertEqual(set(), methods & stored, "L18")
         # One reading of the files, so that what is called can be known again.
@@ -188,7 +189,8 @@ class Language(unittest.TestCase):
         for name, node in nodes(ast.FunctionDef):
             if node.name in ("__eq__", "__str__", "__len__", "__repr__"):
                 changing = (ast.Assign, ast.AugAssign, ast.AnnAssign, ast.Delete, ast.NamedExpr)
-                self.assertFalse([row for row in ast.walk(node) if isinstance(row, changing)], f"L28 {name}:{node.lineno}")
+                for row in ast.walk(node):
+                    self.assertNotIsInstance(row, changing, f"L28 {name}:{node.lineno}")
                 self.assertIsInstance(node.body[-1], ast.Return, f"L28 {name}:{node.lineno}")
 
     def test_caught_are_own_errors_alone(self):
@@ -214,7 +216,7 @@ class Language(unittest.TestCase):
                         if node.func.attr in changing:
                             self.assertNotIn(ast.dump(node.func.value), over, f"L23 {name}:{node.lineno}")
                     if isinstance(node, ast.Subscript) and not isinstance(node.ctx, ast.Load):
-                        self.assertNotIn(ast.dump(node.value).replace("Store", "Load"), over, f"L23 {name}:{node.lineno}")
+                        self.assertNotIn(ast.dump(node.value), over, f"L23 {name}:{node.lineno}")
 
     def test_no_variable_has_an_imports_or_a_classs_name(self):
         for name, tree in trees():

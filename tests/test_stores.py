@@ -211,7 +211,8 @@ class Refused(Storing):
 
     def test_bad_stand(self):
         store = Store(HOUSE, STAND)
-        for thing in [0, *odd_things(), WISH[:3], list(WISH), (*WISH, (0, 0)), ((True, 1), *WISH[1:]), ((4, 1), *WISH[1:])]:
+        others = [WISH[:3], list(WISH), (*WISH, (0, 0)), ((True, 1), *WISH[1:]), ((4, 1), *WISH[1:])]
+        for thing in [0, *odd_things(), *others]:
             self.refuse(BadStand, None, store, "wish", "some", thing)
 
     def test_a_stand_of_the_house_as_it_is_now(self):
